@@ -1,0 +1,1 @@
+"""Allreadings: exactly what all readings allow, at every moment, with papers."""
