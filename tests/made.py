@@ -1,0 +1,141 @@
+"""Inputs made without chance: a fixed sequence of numbers for each seed, and values with one place changed."""
+
+from fractions import Fraction
+
+from allreadings.fractions import fraction
+
+BIG = 10 ** 30 - 1
+
+
+class Made:
+    """Numbers in a fixed sequence, each seed its own."""
+
+    def __init__(self, seed):
+        self.state = seed * 2654435761 + 12345
+
+    def number(self, low, high):
+        self.state = (self.state * 6364136223846793005 + 1442695040888963407) % 2 ** 64
+        return low + (self.state >> 24) % (high - low + 1)
+
+    def one_of(self, values):
+        return values[self.number(0, len(values) - 1)]
+
+    def numbers(self, many, size):
+        return tuple(self.number(-size, size) for _ in range(many))
+
+    def fraction(self, size=6):
+        return fraction(self.number(-size, size), self.number(1, 4))
+
+    def point(self, many, size=6):
+        return [self.fraction(size) for _ in range(many)]
+
+    def direction(self, many):
+        while True:
+            numbers = self.numbers(many, 2)
+            if any(numbers):
+                return numbers
+
+    def row(self, many, size=3):
+        return (self.numbers(many, size), self.number(-size, 2 * size))
+
+    def system(self, many, count, size=3):
+        """Some rows, of which some are noughts, multiples, equal or contrary to others."""
+        rows = []
+        for _ in range(count):
+            kind = self.number(0, 7)
+            if rows and kind == 0:
+                rows.append(self.one_of(rows))
+            elif rows and kind == 1:
+                numbers, most = self.one_of(rows)
+                rows.append((tuple(-2 * number for number in numbers), -2 * most + self.number(-1, 1)))
+            elif rows and kind == 2:
+                numbers, most = self.one_of(rows)
+                rows.append((tuple(3 * number for number in numbers), 3 * most + self.number(-1, 1)))
+            elif kind == 3 and self.number(0, 3) == 0:
+                rows.append(((0,) * many, self.number(-1, 2)))
+            else:
+                rows.append(self.row(many, size))
+        return (many, rows)
+
+    def mixed_up(self, values):
+        """The values in another sequence."""
+        left, found = list(values), []
+        while left:
+            found.append(left.pop(self.number(0, len(left) - 1)))
+        return found
+
+
+def exact(a):
+    """A FRACTION as one of Python's own."""
+    return Fraction(a[0], a[1])
+
+
+def told(worth):
+    """One of Python's own fractions as a FRACTION."""
+    return (worth.numerator, worth.denominator)
+
+
+STRANGE = [
+    None, True, False, 0, 1, -1, 2, 7, BIG, "", "a", "point", "worth", "shape", "empty", "none", "1/2",
+    [], (), [[]], [()], ((),), ([],), [None], (None,), (0, 1), [0, 1], (1, 1), (True, 1), (0, True), (1, 0), (2, 4),
+    (1, -1), [(0, 1)], [(1, 1)], [(True, 1)], [(1, True)], [[0, 1]], ((0, 1),), [(0, 1), (1, 1)], (0, 0), (0, 1, 1),
+    ("point",), ("point", None), ("point", []), ("clash", []), ("none", None), ("none", []), ("worth", 1, 2, 3),
+    ("endless", [], ()), ("endless", None, None), ("equal", [], []), ("apart", 0, []), ("apart", True, [(0, 1)]),
+    ("barred", []), ("barred", None), ("out", []), [("out", [])], [("drift", ())], ("empty", 1), ("empty", True),
+    ("empty", None), ("shape", 1, [], [], []), ("shape", 1, None, None, None), ("shape",), ([], []), ([(1, 1)], []),
+    ((1,), 1), ((1, 2), 3), ((True,), 1), (1, [((1,), 1)]), (1, [((1,), True)]), (0, []), (True, []), (21, []),
+]
+
+NEST = []
+for _ in range(38):
+    NEST = [NEST]
+STRANGE.append(NEST)
+STRANGE.append((((("x",), [1]), [2]),))
+
+
+def changed(value):
+    """Values that differ from the value in one place: in kind, by one, in length, or a list made a tuple."""
+    if isinstance(value, bool) or value is None:
+        yield 0
+        return
+    if isinstance(value, int):
+        yield value + 1
+        yield value - 1
+        yield None
+        yield str(value)
+        yield [value]
+        if value in (0, 1):
+            yield bool(value)
+        return
+    if isinstance(value, str):
+        yield value + "x"
+        yield None
+        yield [value]
+        return
+    kind = type(value)
+    yield None
+    yield list(value) if kind is tuple else tuple(value)
+    yield value + kind([0])
+    yield value[:-1] if value else kind([()])
+    for at, part in enumerate(value):
+        for other in changed(part):
+            yield kind([other if k == at else value[k] for k in range(len(value))])
+
+
+def with_bools(value):
+    """Values that differ from the value in that one 0 or 1 is False or True."""
+    if isinstance(value, int) and not isinstance(value, bool) and value in (0, 1):
+        yield bool(value)
+    if isinstance(value, (list, tuple)):
+        for at, part in enumerate(value):
+            for other in with_bools(part):
+                yield type(value)([other if k == at else value[k] for k in range(len(value))])
+
+
+def with_kinds(value):
+    """Values that differ from the value in that one list is a tuple, or one tuple a list."""
+    if isinstance(value, (list, tuple)):
+        yield tuple(value) if isinstance(value, list) else list(value)
+        for at, part in enumerate(value):
+            for other in with_kinds(part):
+                yield type(value)([other if k == at else value[k] for k in range(len(value))])
