@@ -13,6 +13,7 @@ from allreadings.solving import has_point
 from tests.made import BIG, STRANGE, Made, changed, with_bools, with_kinds
 from tests.test_solving import EDGES, wide
 
+NOUGHT = (0, 1)
 LINE = (1, [((1,), 0)])
 BOX = (2, [((1, 0), 2), ((-1, 0), 1), ((0, 1), 3), ((0, -1), 0)])
 
@@ -169,6 +170,12 @@ class Judge(unittest.TestCase):
             ("endless", [(2, 1), (3, 1)], (1, 1)), ("endless", [(2, 1), (3, 1)], (0, 0)), ("Worth",),
             ("worth", (5, 1), [(2, 1), (3, 1)], ones, ones), ("none", [(0, 1)] * 4, [(2, 1), (3, 1)]),
         ]:
+            self.assertIs(is_greatest(BOX, (1, 1), value), False, value)
+        system, numbers, good = self.GOOD[3]
+        for value in [good + (0,), good + ([NOUGHT], good[1]), ("non", good[1]), (good[1], good[1]), [good[0], good[1]]]:
+            self.assertIs(is_greatest(system, numbers, value), False, value)
+        good = self.GOOD[0][2]
+        for value in [("wort",) + good[1:], (good[0],) + good[2:], good[1:], (None,) + good[1:], ("endless",) + good[1:]]:
             self.assertIs(is_greatest(BOX, (1, 1), value), False, value)
         for value in [("endless", [(1, 1)], (-1,)), ("endless", [(0, 1)], (0,)), ("endless", [(0, 1)], (1,)),
                       ("endless", [(0, 1)], [-1]), ("endless", [(0, 1)], (-1,), (-1,)), ("endless", (-1,), [(0, 1)])]:

@@ -165,7 +165,7 @@ class Equal(unittest.TestCase):
         self.assertIs(is_equal_paper(low, high, ("apart", 1, [(1, 2)])), True)
         for value in [("apart", 1, [(-1, 2)]), ("apart", 0, [(0, 1)]), ("apart", 2, [(1, 2)]), ("apart", True, [(1, 2)]),
                       ("apart", False, [(-1, 2)]), ("apart", None, [(1, 2)]), ("apart", 0, [(-1, 2), (0, 1)]),
-                      ("apart", -1, [(1, 2)]), ("apart", 0, (-1, 2)), ("apart", 0, ((-1, 2),))]:
+                      ("apart", -1, [(1, 2)]), ("part", 1, [(1, 2)]), (None, 1, [(1, 2)]), ("apart", 0, (-1, 2)), ("apart", 0, ((-1, 2),))]:
             self.assertIs(is_equal_paper(low, high, value), False, value)
         # "equal" may be shown of two systems without points, too.
         nopoint = (1, [((0,), -1)])

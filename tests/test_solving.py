@@ -197,7 +197,8 @@ class Judges(unittest.TestCase):
                 self.assertIs(is_clash(self.NONE, value), False)
         self.assertEqual([is_tight(self.NONE, weights) for weights in good], [True, False, True])
         bad = [[], [(0, 1)] * 3, [(1, 1), (2, 1)], [(1, 1), (2, 1), (0, 1), (0, 1)], [(1, 1), (1, 1), (0, 1)],
-               [(-1, 1), (-2, 1), (0, 1)], [(2, 1), (5, 1), (1, 1), (0, 1)], [(0, 1), (1, 1), (1, 1)]]
+               [(-1, 1), (-2, 1), (0, 1)], [(2, 1), (5, 1), (1, 1), (0, 1)], [(0, 1), (1, 1), (1, 1)],
+               [(0, 1), (1, 1), (0, 1)], [(1, 1), (3, 1), (0, 1)], [(1, 1), (7, 4), (0, 1)], [(0, 1), (5, 1), (1, 2)]]
         for weights in bad:
             self.assertEqual([is_clash(self.NONE, weights), is_tight(self.NONE, weights)], [False, False])
         self.assertIs(is_clash((0, [((), 0)]), [(1, 1)]), False)
