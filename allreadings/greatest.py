@@ -1,7 +1,7 @@
 """Greatest worths of forms, by the walk and by taking out; bounds, drifts, and rows that follow."""
 
 from allreadings.basics import contrary, product_sum
-from allreadings.clashes import filled, gap_at, is_clash, is_drift, plain_settled, rank_of
+from allreadings.clashes import filled, gap_at, is_clash, is_drift, plain_settled, rank_of, worth_in_gap
 from allreadings.following import Following
 from allreadings.fractions import NOUGHT, compare, is_fraction, opposite, over, whole
 from allreadings.points import is_amounts, is_point, plain_direction
@@ -35,7 +35,7 @@ def plain_greatest(system, numbers):
     places = list(reversed(range(1, many + 1)))
     rounds.run(places)
     if rounds.false_row() is None:
-        low, high = gap_at((many + 1, list(rounds.left)), [NOUGHT for _ in range(many + 1)], 0)
+        low, high = gap_at((many + 1, list(rounds.left)), [NOUGHT] * (many + 1), 0)
         if low is None or high is None or compare(low, high) <= 0:
             return _plain_told(system, numbers, rounds, low, high)
         # The last unknown has no worth left, so taking it out as well brings a false row.
@@ -47,8 +47,9 @@ def _plain_told(system, numbers, rounds, low, high):
     """What is told of a form whose worths go from low to high."""
     many, rows = system
     places = list(reversed(range(1, many + 1)))
-    first = high if high is not None else low
-    point = filled(rounds, places, [first or whole(0)] + [whole(0) for _ in range(many)])[1:]
+    # From high downwards: high, or low if there is no high, or nought.
+    worth = worth_in_gap((high, low))
+    point = filled(rounds, places, [worth] + [NOUGHT for _ in range(many)])[1:]
     if high is not None:
         return ("worth", high, point, _weights_of_high(rounds, high))
     drifting = (many, level_rows(rows) + [(contrary(numbers), -1)])
@@ -57,8 +58,9 @@ def _plain_told(system, numbers, rounds, low, high):
 
 def _weights_of_high(rounds, high):
     """The weights of the row left that holds the unknown ahead to high, without the two rows of the form."""
-    row = [row for row in rounds.left if row[0][0] > 0 and row[1] * high[1] == high[0] * row[0][0]][0]
-    return [over(weight, whole(row[0][0])) for weight in rounds.weights_of(row)[:-2]]
+    holding = [row for row in rounds.left if row[0][0] > 0 and row[1] * high[1] == high[0] * row[0][0]]
+    number = whole(holding[0][0][0])
+    return [over(weight, number) for weight in rounds.weights_of(holding[0])[:-2]]
 
 
 def is_greatest(system, numbers, value):
