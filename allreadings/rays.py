@@ -63,21 +63,16 @@ def _inward(row, other):
 
 def clipped(ring, line):
     """The ring of the part that keeps a row, told as its line."""
-    found = []
+    # A ring of two rays is gone along there and back, so a crossing would come twice but for the dict.
+    found = {}
     for at, ray in enumerate(ring):
         ahead = ring[at - 1]
         room, room_ahead = product_sum(line, ray), product_sum(line, ahead)
         if room_ahead * room < 0:
-            _add_new(found, _crossing(ahead, room_ahead, ray, room))
+            found[_crossing(ahead, room_ahead, ray, room)] = True
         if room >= 0:
-            _add_new(found, ray)
-    return found
-
-
-def _add_new(found, ray):
-    # A ring of two rays is gone along there and back, so the crossing would come twice.
-    if ray not in found[:1] + found[-1:]:
-        found.append(ray)
+            found[ray] = True
+    return list(found)
 
 
 def _crossing(one, room, other, other_room):
