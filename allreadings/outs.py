@@ -2,9 +2,9 @@
 
 from allreadings.basics import contrary
 from allreadings.clashes import gap_at, worth_in_gap
-from allreadings.fractions import NOUGHT, compare, fraction, over_one_below, plus, times, total
+from allreadings.fractions import NOUGHT, compare, fraction, over_one_below, times, total
 from allreadings.needless import needless
-from allreadings.pairing import taken_out_briefly, weights_listed
+from allreadings.pairing import composed, taken_out_briefly, weights_listed
 from allreadings.points import is_amounts, is_point
 from allreadings.rowsof import broken_rows, plain_divisor, plain_row, sum_by_one_below, tidied_with_places
 from allreadings.solving import settled
@@ -47,17 +47,8 @@ def _with_papers(system, way):
     """The last system of the way, with weights over the rows given at first."""
     told = way[0][1]
     for _, papers in way[1:]:
-        told = [_composed(paper, told) for paper in papers]
+        told = [composed(paper, told) for paper in papers]
     return (way[-1][0], [weights_listed(paper, len(system[1])) for paper in told])
-
-
-def _composed(paper, papers):
-    """The paper, with the rows that it weighs replaced by the sums that these are."""
-    found = {}
-    for place, weight in paper.items():
-        for source, part in papers[place].items():
-            found[source] = plus(found.get(source, NOUGHT), times(weight, part))
-    return found
 
 
 def put_back(system, places, point):

@@ -1,7 +1,7 @@
 """One unknown taken out of a system, by pairs of rows."""
 
 from allreadings.errors import TooMany
-from allreadings.fractions import NOUGHT, fraction
+from allreadings.fractions import NOUGHT, fraction, plus, times
 from allreadings.rowsof import MOST_LEFT, plain_divisor, plain_row, tidied_with_places
 
 
@@ -18,7 +18,20 @@ def taken_out(system, place):
 
 def taken_out_briefly(system, place):
     """As taken_out, but each paper is a dict of the weights that are not nought, by their places."""
-    many, rows = system
+    found, sources = rows_without(system, place)
+    left, places = tidied_with_places((system[0] - 1, found))
+    if len(places) > MOST_LEFT:
+        raise TooMany("rows", MOST_LEFT)
+    papers = []
+    for at in places:
+        divisor = plain_divisor(found[at])
+        papers.append({k: fraction(count, divisor) for k, count in sources[at]})
+    return (left, papers)
+
+
+def rows_without(system, place):
+    """The rows left and the pairs, none made plain; and for each the places and counts of the rows it is a sum of."""
+    rows = system[1]
     uppers = [k for k, row in enumerate(rows) if row[0][place] > 0]
     lowers = [k for k, row in enumerate(rows) if row[0][place] < 0]
     found, sources = [], []
@@ -30,14 +43,16 @@ def taken_out_briefly(system, place):
         for j in lowers:
             found.append(_pair_sum(rows[k], rows[j], place))
             sources.append([(k, -rows[j][0][place]), (j, rows[k][0][place])])
-    left, places = tidied_with_places((many - 1, found))
-    if len(places) > MOST_LEFT:
-        raise TooMany("rows", MOST_LEFT)
-    papers = []
-    for at in places:
-        divisor = plain_divisor(found[at])
-        papers.append({k: fraction(count, divisor) for k, count in sources[at]})
-    return (left, papers)
+    return (found, sources)
+
+
+def composed(paper, papers):
+    """The paper, with the rows that it weighs replaced by the sums that these are."""
+    found = {}
+    for place, weight in paper.items():
+        for source, part in papers[place].items():
+            found[source] = plus(found.get(source, NOUGHT), times(weight, part))
+    return found
 
 
 def weights_listed(paper, many):

@@ -116,7 +116,7 @@ def _shape_of_line(rows):
 def _shape_of_band(rows):
     """The shape of tidy rows over two unknowns that are all along one another."""
     if not rows:
-        return ("shape", 2, [], [[NOUGHT, NOUGHT]], [(-1, 0), (0, -1), NOUGHT, (1, 0)])
+        return ("shape", 2, [], [[NOUGHT, NOUGHT]], [(-1, 0), (0, -1), (0, 1), (1, 0)])
     way = shortened(turned(rows[0][0]))
     directions = [way, contrary(way)]
     if len(rows) == 1:
@@ -150,7 +150,7 @@ def _shape_of_ring(ring):
     elif len(ring) == 2:
         rows = _rows_along(corners, directions)
     else:
-        rows = band_rows((1, 0), corners[0][0], corners[0][0]) + band_rows(NOUGHT, corners[0][1], corners[0][1])
+        rows = band_rows((1, 0), corners[0][0], corners[0][0]) + band_rows((0, 1), corners[0][1], corners[0][1])
     return ("shape", 2, sorted(rows), corners, sorted(directions))
 
 

@@ -139,3 +139,72 @@ def with_kinds(value):
         for at, part in enumerate(value):
             for other in with_kinds(part):
                 yield type(value)([other if k == at else value[k] for k in range(len(value))])
+
+
+class MadeWorlds(Made):
+    """Worlds, readings and arrivals in a fixed sequence."""
+
+    def world(self, many=None, moments=None, size=2, rows=3):
+        """A world whose steps mostly let a stand move a little, some with idle, false, equal or no rows."""
+        many = many or self.number(1, 2)
+        moments = moments or self.number(1, 4)
+        start = [self.world_row(many, size) for _ in range(self.number(0, rows))]
+        steps = []
+        for _ in range(moments - 1):
+            kind = self.number(0, 4)
+            if kind == 0:
+                steps.append([self.world_row(2 * many, size) for _ in range(self.number(0, rows))])
+            elif kind == 1:
+                steps.append(self.drifting(many, size)[:self.number(0, 3)])
+            else:
+                steps.append(self.drifting(many, size))
+        names = ["a", "b", "c2"][:self.number(1, 3)]
+        sensors = [(name, self.direction(many), self.one_of([(0, 1), (1, 1), (1, 2), (5, 3)])) for name in names]
+        return (many, moments, start, steps, sensors)
+
+    def world_row(self, many, size):
+        kind = self.number(0, 11)
+        if kind == 0:
+            return ((0,) * many, self.one_of([-2, 0, 3]) if self.number(0, 2) == 0 else 1)
+        numbers, most = self.row(many, size)
+        return (numbers, most + self.number(0, 3))
+
+    def drifting(self, many, size):
+        """Rows of a step that says how far each number of a stand goes on."""
+        rows = []
+        for k in range(many):
+            numbers = [0] * (2 * many)
+            numbers[k], numbers[many + k] = -1, 1
+            if self.number(0, 2) == 0:
+                numbers[self.number(0, many - 1)] += self.number(-1, 1)
+            high = self.number(0, size)
+            rows.append((tuple(numbers), high))
+            rows.append((tuple(-number for number in numbers), self.number(0, size) - high + size))
+        return rows
+
+    def readings(self, world, count):
+        """So many readings, most near to one course, some doubled but for the label."""
+        stand = self.point(world[0], 3)
+        readings = []
+        for k in range(count):
+            name, numbers, _ = self.one_of(world[4])
+            moment = self.number(0, world[1] - 1)
+            worth = fraction(0, 1)
+            for number, a in zip(numbers, stand):
+                worth = told(exact(worth) + number * exact(a))
+            if self.number(0, 3) == 0:
+                worth = told(exact(worth) + exact(self.fraction(2)))
+            reading = ("r" + str(k), name, moment, worth)
+            if readings and self.number(0, 5) == 0:
+                reading = ("r" + str(k),) + self.one_of(readings)[1:]
+            readings.append(reading)
+        return self.mixed_up(readings)
+
+    def arrivals(self, world, count):
+        """Arrivals of a few readings, heard late and twice, and taken back, none taken."""
+        readings = self.readings(world, count)
+        found = []
+        for _ in range(2 * count):
+            reading = self.one_of(readings)
+            found.append(("back", reading[0]) if self.number(0, 5) == 0 else ("hear", reading))
+        return found

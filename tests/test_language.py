@@ -32,7 +32,10 @@ NODES = (
     ast.BinOp, ast.UnaryOp, ast.BoolOp, ast.Compare, ast.IfExp, ast.Call, ast.Attribute, ast.Subscript, ast.Slice,
     ast.Name, ast.Constant, ast.Tuple, ast.List, ast.Dict, ast.ListComp, ast.DictComp, ast.GeneratorExp,
     ast.comprehension, ast.Lambda, ast.keyword, ast.Starred, ast.JoinedStr, ast.FormattedValue, ast.operator,
-    ast.unaryop, ast.boolop, ast.cmpop, ast.expr_context)
+    ast.unaryop, ast.boolop, ast.cmpop, ast.expr_context, ast.Try, ast.ExceptHandler, ast.Delete)
+OWN_ERRORS = {"TermError", "MissingError", "StateError", "LimitError"}
+KEYWORD_ONLY = {"supposed"}
+KEYWORDS = {"sorted": {"key"}, "max": {"default"}}
 AT_ONCE = {"zip", "enumerate", "reversed", "range"}
 
 
@@ -116,7 +119,10 @@ class Files(unittest.TestCase):
                 elif isinstance(node, ast.Assign):
                     self.assertEqual(len(node.targets), 1)
                     self.assertIsInstance(node.targets[0], ast.Name)
-                    self.assertIsInstance(ast.literal_eval(node.value), (int, str, tuple))
+                    worth = ast.literal_eval(node.value)
+                    self.assertIsInstance(worth, (int, str, tuple, dict))
+                    if isinstance(worth, dict):
+                        hash(tuple(worth.items()))
                     names.append(node.targets[0].id)
                 elif isinstance(node, (ast.FunctionDef, ast.ClassDef)):
                     names.append(node.name)
@@ -132,7 +138,9 @@ class Words(unittest.TestCase):
             for node in ast.walk(parsed(path)):
                 self.assertIsInstance(node, NODES, (path, getattr(node, "lineno", 0)))
                 if isinstance(node, ast.BinOp):
-                    self.assertNotIsInstance(node.op, (ast.Div, ast.Pow, ast.MatMult), path)
+                    self.assertNotIsInstance(node.op, (ast.Div, ast.MatMult), path)
+                    if isinstance(node.op, ast.Pow):
+                        self.assertIn(ast.literal_eval(node.right), range(65), path)
                 if isinstance(node, ast.Constant):
                     self.assertNotIsInstance(node.value, (float, complex, bytes, type(...)), path)
                 if isinstance(node, ast.Compare):
@@ -160,7 +168,7 @@ class Words(unittest.TestCase):
             for node in ast.walk(tree):
                 if isinstance(node, ast.Name) and isinstance(node.ctx, ast.Load):
                     self.assertNotEqual(node.id, "_", path)
-                    if node.id in BUILTINS:
+                    if node.id in BUILTINS and node.id != "property":
                         self.assertIn(node.id, ALLOWED_BUILTINS, (path, node.lineno))
 
     def test_strings(self):
@@ -178,8 +186,14 @@ class Words(unittest.TestCase):
         for path in FILES:
             tree = parsed(path)
             for node in ast.walk(tree):
-                if isinstance(node, (ast.FunctionDef, ast.ClassDef)):
+                if isinstance(node, ast.ClassDef):
                     self.assertEqual(node.decorator_list, [], path)
+                if isinstance(node, ast.FunctionDef) and node.decorator_list:
+                    # A property, which changes nothing: it is one return behind its docstring.
+                    self.assertEqual([part.id for part in node.decorator_list], ["property"], path)
+                    self.assertTrue(any(node in top.body for top in tree.body if isinstance(top, ast.ClassDef)), path)
+                    self.assertEqual([type(part) for part in node.body], [ast.Expr, ast.Return], path)
+                    self.assertEqual([part.arg for part in node.args.args], ["self"], path)
                 if isinstance(node, ast.ClassDef):
                     self.assertIn(node, tree.body)
                     for part in node.body:
@@ -193,6 +207,34 @@ class Words(unittest.TestCase):
                     self.assertTrue(called_name(node.exc), (path, node.lineno))
 
 
+class Errors(unittest.TestCase):
+    def test_only_own_errors_are_caught(self):
+        for path in FILES:
+            for node in ast.walk(parsed(path)):
+                if isinstance(node, ast.Try):
+                    self.assertEqual((node.orelse, node.finalbody), ([], []), path)
+                if isinstance(node, ast.ExceptHandler):
+                    self.assertIsNone(node.name, path)
+                    caught = node.type.elts if isinstance(node.type, ast.Tuple) else [node.type]
+                    self.assertLessEqual({part.id for part in caught}, OWN_ERRORS, path)
+
+    def test_only_items_are_deleted(self):
+        for path in FILES:
+            for node in ast.walk(parsed(path)):
+                if isinstance(node, ast.Delete):
+                    self.assertTrue(all(isinstance(part, ast.Subscript) for part in node.targets), path)
+
+    def test_no_attribute_has_the_name_of_a_property(self):
+        properties, stored = set(), set()
+        for path in FILES:
+            for node in ast.walk(parsed(path)):
+                if isinstance(node, ast.FunctionDef) and node.decorator_list:
+                    properties.add(node.name)
+                if isinstance(node, ast.Attribute) and isinstance(node.ctx, ast.Store):
+                    stored.add(node.attr)
+        self.assertFalse(properties & stored)
+
+
 class Calls(unittest.TestCase):
     def setUp(self):
         self.own = {}
@@ -204,6 +246,7 @@ class Calls(unittest.TestCase):
     def test_methods(self):
         attributes = {node.attr for path in FILES for node in ast.walk(parsed(path))
                       if isinstance(node, ast.Attribute) and isinstance(node.ctx, ast.Store)}
+        attributes |= {name for name, nodes in self.own.items() if any(node.decorator_list for node in nodes)}
         for path in FILES:
             tree = parsed(path)
             called = {id(node.func) for node in ast.walk(tree) if isinstance(node, ast.Call)}
@@ -241,7 +284,10 @@ class Calls(unittest.TestCase):
                     for part in node.args:
                         self.assertTrue(not isinstance(part, ast.Starred) or called_name(node) == "zip", path)
                     for word in node.keywords:
-                        self.assertEqual((called_name(node), word.arg), ("sorted", "key"), (path, node.lineno))
+                        if called_name(node) in self.own:
+                            self.assertIn(word.arg, KEYWORD_ONLY, (path, node.lineno))
+                        else:
+                            self.assertIn(word.arg, KEYWORDS.get(called_name(node), ()), (path, node.lineno))
                         keys.add(id(word.value))
             for node in ast.walk(tree):
                 if isinstance(node, ast.Lambda):
@@ -267,7 +313,10 @@ class Calls(unittest.TestCase):
             for node in ast.walk(tree):
                 name = called_name(node)
                 if name in here:
-                    self.assertEqual(len(node.args), len(here[name].args.args), (path, node.lineno))
+                    told = here[name].args
+                    self.assertEqual(len(node.args), len(told.args), (path, node.lineno))
+                    by_name = {word.arg for word in node.keywords}
+                    self.assertLessEqual(by_name, {part.arg for part in told.kwonlyargs}, (path, node.lineno))
 
     def test_loops_do_not_change_what_they_go_over(self):
         for path in FILES:
