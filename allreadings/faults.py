@@ -2,28 +2,29 @@
 
 from allreadings.comparisons import summed_form
 from allreadings.errors import IdleSensor, TakenName, UnknownName, WrongMoment
-
-MOST_MOMENTS = 8
+from allreadings.worlds import MOST_MOMENTS
 
 
 class Checking:
     """What the statements so far have told, against which the next one is held.
 
-    The names of the unknowns, the number of moments and the sensors may be told behind what uses them.
+    The names of the unknowns, the number of moments and the sensors may be told behind what uses them; sensed are
+    the sensors told so far alone.
     """
 
     def __init__(self, names, moments, sensors):
         self.names = names
         self.moments = moments
         self.sensors = sensors
-        self.told = {}
+        self.frame = {}
+        self.sensed = {}
         self.standing = {}
 
     def check(self, statement):
         """Raise the first fault of the statement, if it has one."""
         kind, row = statement[0], statement[1]
         if kind in ("unknowns", "moments"):
-            self._check_taken(self.told, kind, row)
+            _take_name(self.frame, kind, row)
             self._check_frame(statement)
         elif kind == "sensor":
             self._check_sensor(statement)
@@ -37,11 +38,6 @@ class Checking:
             for form in (statement[-3], statement[-1]):
                 self._check_form(form, row, kind == "ask")
 
-    def _check_taken(self, told, name, row):
-        if name in told:
-            raise TakenName(name, row)
-        told[name] = True
-
     def _check_frame(self, statement):
         kind, row, told = statement
         if kind == "moments" and not 1 <= told <= MOST_MOMENTS:
@@ -51,15 +47,14 @@ class Checking:
 
     def _check_sensor(self, statement):
         _, row, name, form, _ = statement
-        # A sensor may be called unknowns or moments, so its name is kept apart from these words.
-        self._check_taken(self.told, "sensor " + name, row)
+        _take_name(self.sensed, name, row)
         self._check_form(form, row, False)
         if not any(list(summed_form(form).values())):
             raise IdleSensor(name, row)
 
     def _check_reading(self, statement):
         _, row, label, sensor, moment, _ = statement
-        self._check_taken(self.standing, label, row)
+        _take_name(self.standing, label, row)
         if sensor not in self.sensors:
             raise UnknownName(sensor, row)
         self._check_moment(moment, row)
@@ -81,6 +76,13 @@ class Checking:
     def _check_moment(self, moment, row):
         if moment >= self.moments:
             raise WrongMoment(moment, row)
+
+
+def _take_name(taken, name, row):
+    """Put the name to those that are taken, unless it is one of them."""
+    if name in taken:
+        raise TakenName(name, row)
+    taken[name] = True
 
 
 def check_faults(told, names, moments):

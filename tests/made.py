@@ -208,3 +208,20 @@ class MadeWorlds(Made):
             reading = self.one_of(readings)
             found.append(("back", reading[0]) if self.number(0, 5) == 0 else ("hear", reading))
         return found
+
+    def linear(self, world, size=3):
+        """A LINEAR of the world, some without terms."""
+        terms = [(moment, self.numbers(world[0], size)) for moment in range(world[1]) if self.number(0, 1)]
+        return ([term for term in terms if any(term[1])], self.number(-size, 2 * size))
+
+    def sheet(self):
+        """A SHEET, some of its numbers of up to a hundred digits."""
+        world = self.world(size=self.one_of([1, 3, 12]))
+        if self.number(0, 4) == 0:
+            many, moments, start, steps, sensors = world
+            big = 10 ** 100 - 1 - self.number(0, 5)
+            start = start + [((big,) + (-big,) * (many - 1), self.one_of([big, -big]))]
+            world = (many, moments, start, steps, sensors[:-1] + [(sensors[-1][0], sensors[-1][1], (big, 1))])
+        linears = [self.linear(world) for _ in range(self.number(0, 4))]
+        return (self.one_of([["x"], ["back"]]) if world[0] == 1 else self.one_of([["x", "y"], ["y1", "step"]]),
+                world, self.readings(world, self.number(0, 5)), linears)

@@ -4,8 +4,9 @@ import importlib
 import inspect
 import unittest
 
-from allreadings import clashes, corners, greatest, images, meets, needless, outs, pairing, points, rowsof, shapes
-from allreadings import solving
+from allreadings import allrows, arrivals, backwards, clashes, corners, courses, everywhere, forwards, greatest, images
+from allreadings import keeping, linears, meets, needless, outlines, outs, pairing, points, questions, reader, rowsof
+from allreadings import setpapers, shapes, solving, stepping, worlds, writer
 from tests.test_shapes import KINDS
 
 TOLD = {
@@ -41,18 +42,99 @@ TOLD = {
     "images": "image(shape,forms) behind(shape,forms) moved_shape(shape,point) bounds(shape,numbers)"
               " width(shape,numbers) greatest_face(shape,numbers)",
     "words": "is_name(value) is_unknown(value) lines(text)",
+    "parsing": "statements(text)",
+    "beginnings": "is_beginning(words) is_statement(words) first_fault(text)",
+    "reader": "read_sheet(text) is_sheet_text(value) arrivals(text) tell_one(first,second)",
+    "writer": "form_text(names,numbers) statement_texts(sheet) write_sheet(sheet) tidy_text(text)",
+    "worlds": "is_sensor(value) is_world(value) is_reading(world,value) is_readings(world,value) sensor_of(world,name)"
+              " world_cut(world,many) readings_cut(readings,many) world_from(world,moment)"
+              " readings_from(readings,many) world_moved(world,offsets) readings_moved(world,readings,offsets)",
+    "allrows": "reading_rows(world,reading) all_rows(world,readings) row_labels(world,readings) course_point(course)"
+               " point_course(world,point) at_moment(world,moment,numbers)",
+    "courses": "is_course(world,value) is_allowed(world,readings,value) fault_of(world,readings,course)"
+               " course_of(world,readings) clash_of_all(world,readings) named_clash(world,readings)"
+               " is_named_clash(world,readings,value) blamed_labels(clash) set_at(world,readings,moment)",
+    "outlines": "outline(system,places) outline_plain(system,places) outline_paper(system,places)"
+                " is_outline_paper(value,system,places,shape)",
+    "stepping": "joint_system(shape,rows) turned_rows(rows) stepped(shape,rows) stepped_plain(shape,rows)"
+                " stepped_back(shape,rows) led_stand(shape,rows,stand)",
+    "forwards": "seen_set(world,readings,moment) before_set_plain(world,readings,moment)"
+                " next_set(world,readings,moment,shape) before_set(world,readings,moment) before_sets(world,readings)"
+                " ahead_set(world,readings,moment,later) course_to(world,readings,moment,stand)"
+                " carried_paper(world,readings,moment) carried_papers(world,readings)",
+    "backwards": "read_set(world,readings,moment) last_behind(world,readings) behind_one(world,readings,moment,shape)"
+                 " behind_set(world,readings,moment) behind_sets(world,readings) behind_plain(world,readings,moment)"
+                 " behind_sums(world,readings,moment) late_course(world,readings,moment,stand)"
+                 " is_late_course(world,readings,moment,stand,value)",
+    "everywhere": "set_everywhere(world,readings,moment) sets_everywhere(world,readings)"
+                  " sets_returning(world,readings) sets_onwards(world,readings) set_sums(world,readings,moment)"
+                  " course_through(world,readings,moment,stand) through(world,readings,moment,stand)"
+                  " is_through(world,readings,moment,stand,value)",
+    "setpapers": "level_world(world) level_readings(readings) is_move(world,readings,value)"
+                 " move_through(world,readings,moment,direction) set_paper(world,readings,moment)"
+                 " plain_set_paper(world,readings,moment) is_set_paper(world,readings,moment,shape,value)"
+                 " papers_everywhere(world,readings) is_everywhere(world,readings,shapes,value)",
+    "arrivals": "is_arrival(world,value) are_arrivals(world,value) first_taken(arrivals) state_in(arrivals,label)"
+                " standing_readings(arrivals) settled_arrivals(arrivals) merged(arrivals,others)"
+                " lacking(arrivals,others) lateness(arrivals) greatest_heard(arrivals)",
+    "keeping": "keeper_of(world,arrivals) told_from_nothing(world,arrivals,moment)",
+    "linears": "is_terms(world,value) is_linear(world,value) is_saying(world,value) is_supposed(world,value)"
+               " form_numbers(world,terms) linear_row(world,linear) linears_at(numbers,most,first,last)"
+               " form_worth(terms,course) peak_worth(numbers,course) keeps_linear(linear,course)"
+               " keeps_saying(saying,course)",
 }
+
+# Functions with a parameter that is passed by its name alone.
+SUPPOSING = {
+    "linears": "known_rows(world,readings) known_course(world,readings) is_known(world,readings,value)"
+               " is_known_move(world,readings,value)",
+    "questions": "reach(world,readings,terms) is_reach(world,readings,terms,value) ends(world,readings,terms)"
+                 " plain_ends(world,readings,terms) highest(world,readings,numbers)"
+                 " least_peak(world,readings,numbers) is_least_peak(world,readings,numbers,value)",
+}
+
+KEEPER = (
+    "take(arrival) hear(reading) take_back(label) take_all(arrivals) undo() state_of(label) reading_of(label)"
+    " before_at(moment) behind_at(moment) told_at(moment) all_told() is_clashing() paper_at(moment) made() late()"
+    " firm(most) moved_by(arrival) twin()")
+
+
+def functions_told(told):
+    """Each function of a table, with its file, its name and its parameters."""
+    for file, functions in told.items():
+        module = importlib.import_module("allreadings." + file)
+        for words in functions.split():
+            name, parameters = words[:-1].split("(")
+            yield file, getattr(module, name), name, parameters.split(",")
 
 
 class Interface(unittest.TestCase):
     def test_names_and_parameters(self):
-        for file, functions in TOLD.items():
-            module = importlib.import_module("allreadings." + file)
-            for told in functions.split():
-                name, parameters = told[:-1].split("(")
-                function = getattr(module, name)
-                self.assertEqual(function.__module__, "allreadings." + file, name)
-                self.assertEqual(list(inspect.signature(function).parameters), parameters.split(","), name)
+        for file, function, name, parameters in functions_told(TOLD):
+            self.assertEqual(function.__module__, "allreadings." + file, name)
+            told = inspect.signature(function).parameters
+            self.assertEqual(list(told), parameters, name)
+            self.assertEqual({part.kind for part in told.values()}, {inspect.Parameter.POSITIONAL_OR_KEYWORD}, name)
+            self.assertEqual({part.default for part in told.values()}, {inspect.Parameter.empty}, name)
+
+    def test_supposed_is_passed_by_name_alone(self):
+        for file, function, name, parameters in functions_told(SUPPOSING):
+            self.assertEqual(function.__module__, "allreadings." + file, name)
+            told = inspect.signature(function).parameters
+            self.assertEqual(list(told), parameters + ["supposed"], name)
+            self.assertEqual(told["supposed"].kind, inspect.Parameter.KEYWORD_ONLY, name)
+            self.assertEqual(told["supposed"].default, (), name)
+
+    def test_keeper(self):
+        self.assertEqual(keeping.Keeper.__module__, "allreadings.keeping")
+        self.assertEqual(list(inspect.signature(keeping.Keeper).parameters), ["world"])
+        for told in KEEPER.split():
+            name, parameters = told[:-1].split("(")
+            method = vars(keeping.Keeper)[name]
+            self.assertEqual(list(inspect.signature(method).parameters), ["self"] + parameters.split(",")[:bool(
+                parameters)], name)
+        for name in ["world", "log", "readings"]:
+            self.assertIsInstance(vars(keeping.Keeper)[name], property)
 
 
 def lists_within(value):
@@ -96,6 +178,75 @@ CALLS = [
     (meets.sum_of_shapes, SHAPE, STRIP), (images.image, SHAPE, [(1, 0), (0, 1)]),
     (images.behind, SHAPE, [(1, 0), (0, 1)]), (images.moved_shape, SHAPE, [(0, 1), (0, 1)]),
     (images.greatest_face, SHAPE, (0, 0)), (images.bounds, SHAPE, (1, 2)),
+]
+
+
+# A world of two numbers, and one of one, with readings that allow courses and some that do not.
+WORLD = (2, 3, [((-1, 0), 0), ((0, -1), 0)],
+         [[((-1, 0, 1, 0), 1), ((1, 0, -1, 0), 1), ((0, -1, 0, 1), 0)], [((-1, 0, 1, 0), 1)]],
+         [("a", (1, 1), (1, 1)), ("b", (0, 1), (1, 2))])
+READS = [("r1", "a", 1, (3, 1)), ("r2", "b", 2, (1, 2))]
+AGAINST = READS + [("r3", "a", 0, (-9, 1))]
+SMALL = (1, 2, [((-1,), 0)], [[((1, -1), 0), ((-1, 1), 2)]], [("a", (1,), (1, 1))])
+HEARD = [("r1", "a", 1, (5, 1))]
+ARRIVED = [("hear", HEARD[0]), ("back", "r2")]
+STEP = [((-1, 0, 1, 0), 1), ((0, -1, 0, 1), 1)]
+TEXT = "unknowns x y\nmoments 2\nstart x <= 1\nsteps x' <= y\nsensor a: x slack 1\nreading r a at 1 = 2\nask x at 0 <= 1"
+SHEET = (["x", "y"], (2, 2, [((1, 0), 1)], [[((0, -1, 1, 0), 0)]], [("a", (1, 0), (1, 1))]), [("r", "a", 1, (2, 1))],
+         [([(0, (1, 0))], 1)])
+STAND = [(1, 1), (1, 1)]
+TERMS = [(0, (1, 0)), (2, (1, 1))]
+
+
+def supposing(function, *arguments):
+    return function(*arguments, supposed=[([(0, (1, 0))], 5)])
+
+
+CALLS = CALLS + [
+    (reader.read_sheet, TEXT), (reader.arrivals, TEXT), (writer.statement_texts, SHEET),
+    (worlds.world_cut, WORLD, 3), (worlds.world_cut, WORLD, 1), (worlds.world_from, WORLD, 0),
+    (worlds.readings_cut, READS, 8), (worlds.readings_from, READS, 0),
+    (worlds.world_moved, WORLD, [(0, 0)] * 3), (worlds.readings_moved, WORLD, READS, [(0, 0)] * 3),
+    (worlds.sensor_of, WORLD, "a"), (allrows.reading_rows, WORLD, READS[0]), (allrows.all_rows, WORLD, READS),
+    (allrows.row_labels, WORLD, READS), (allrows.course_point, [STAND] * 3), (allrows.course_point, [STAND]),
+    (allrows.point_course, WORLD, STAND * 3), (allrows.point_course, (2, 1, [], [], []), STAND),
+    (courses.course_of, WORLD, READS), (courses.clash_of_all, WORLD, AGAINST), (courses.named_clash, WORLD, AGAINST),
+    (courses.set_at, WORLD, READS, 1), (courses.set_at, WORLD, AGAINST, 1), (courses.fault_of, WORLD, READS, [STAND] * 3),
+    (courses.blamed_labels, [(("upper", "r2"), (1, 1))]), (outlines.outline, SYSTEM, [0]),
+    (outlines.outline, SYSTEM, [0, 1]), (outlines.outline, CLASHING, [1]), (outlines.outline_plain, SYSTEM, [0, 1]),
+    (outlines.outline_paper, SYSTEM, [0, 1]), (outlines.outline_paper, CLASHING, [0]),
+    (outlines.outline_paper, (2, [((1, 0), 0)]), [0, 1]), (stepping.joint_system, SHAPE, STEP),
+    (stepping.joint_system, ("empty", 2), []), (stepping.turned_rows, STEP), (stepping.stepped, SHAPE, STEP),
+    (stepping.stepped_plain, SHAPE, STEP), (stepping.stepped_back, SHAPE, STEP),
+    (stepping.led_stand, SHAPE, STEP, STAND), (forwards.seen_set, WORLD, READS, 0), (forwards.seen_set, WORLD, READS, 1),
+    (forwards.before_set_plain, WORLD, READS, 2), (forwards.next_set, WORLD, READS, 1, SHAPE),
+    (forwards.before_set, WORLD, READS, 2), (forwards.before_sets, WORLD, READS),
+    (forwards.ahead_set, WORLD, READS, 1, 1), (forwards.ahead_set, WORLD, READS, 0, 2),
+    (forwards.course_to, WORLD, READS, 2, STAND), (forwards.course_to, WORLD, READS, 0, STAND),
+    (forwards.carried_paper, WORLD, READS, 2), (forwards.carried_papers, WORLD, READS),
+    (forwards.carried_papers, WORLD, AGAINST), (backwards.read_set, WORLD, READS, 1),
+    (backwards.last_behind, WORLD, READS), (backwards.behind_one, WORLD, READS, 0, SHAPE),
+    (backwards.behind_set, WORLD, READS, 0), (backwards.behind_sets, WORLD, READS),
+    (backwards.behind_plain, WORLD, READS, 0), (backwards.behind_sums, WORLD, READS, 0),
+    (backwards.behind_sums, WORLD, AGAINST, 0), (backwards.late_course, WORLD, READS, 1, STAND),
+    (backwards.late_course, WORLD, READS, 2, STAND), (everywhere.set_everywhere, WORLD, READS, 1),
+    (everywhere.sets_everywhere, WORLD, READS), (everywhere.sets_returning, WORLD, READS),
+    (everywhere.sets_onwards, WORLD, READS), (everywhere.set_sums, WORLD, READS, 1),
+    (everywhere.set_sums, WORLD, AGAINST, 1), (everywhere.course_through, WORLD, READS, 1, STAND),
+    (everywhere.through, WORLD, READS, 1, STAND), (everywhere.through, WORLD, AGAINST, 1, STAND),
+    (setpapers.level_world, WORLD), (setpapers.level_readings, READS),
+    (setpapers.move_through, WORLD, [], 1, (1, 0)), (setpapers.set_paper, WORLD, READS, 1),
+    (setpapers.set_paper, WORLD, AGAINST, 1), (setpapers.plain_set_paper, WORLD, READS, 1),
+    (setpapers.papers_everywhere, WORLD, READS), (setpapers.papers_everywhere, WORLD, AGAINST),
+    (arrivals.standing_readings, ARRIVED), (arrivals.settled_arrivals, ARRIVED), (arrivals.merged, ARRIVED, ARRIVED),
+    (arrivals.lacking, ARRIVED, []), (arrivals.lateness, ARRIVED), (keeping.told_from_nothing, SMALL, ARRIVED, 0),
+    (linears.form_numbers, WORLD, TERMS), (linears.linear_row, WORLD, (TERMS, 1)), (linears.linears_at, (1, 0), 1, 0, 2),
+    (linears.known_rows, WORLD, READS), (supposing, linears.known_rows, WORLD, READS),
+    (supposing, linears.known_course, WORLD, READS), (supposing, questions.reach, WORLD, READS, TERMS),
+    (questions.reach, WORLD, AGAINST, TERMS), (questions.ends, WORLD, READS, TERMS),
+    (questions.plain_ends, WORLD, READS, TERMS), (questions.highest, WORLD, READS, (1, 0)),
+    (supposing, questions.least_peak, WORLD, READS, (1, 1)), (questions.least_peak, WORLD, READS, (0, -1)),
+    (questions.least_peak, WORLD, AGAINST, (1, 1)),
 ]
 
 
