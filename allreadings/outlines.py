@@ -33,22 +33,20 @@ def _asked(system, places, directions):
         return ("empty", size)
     parts = [part_of(walk.point(), places)]
     found = hull(size, parts, directions)
+    # A row that holds for the whole system is not asked for again.
+    held = {}
     while True:
-        farther = _farther(walk, places, found)
-        if farther is None:
+        left = [row for row in found[2] if row not in held]
+        if not left:
             return found
-        parts.append(farther)
-        found = hull(size, parts, directions)
-
-
-def _farther(walk, places, shape):
-    """The part of a point that breaks a row of the shape as much as any does, None if none breaks one."""
-    for numbers, most in shape[2]:
-        told = walk.top(_at_places(walk.many, places, numbers))
+        numbers, most = left[0]
+        told = walk.top(_at_places(system[0], places, numbers))
         above, below = told[1]
         if above > most * below:
-            return part_of(told[2], places)
-    return None
+            parts.append(part_of(told[2], places))
+            found = hull(size, parts, directions)
+        else:
+            held[left[0]] = True
 
 
 def part_of(point, places):

@@ -13,6 +13,7 @@ from allreadings.outlines import outline, outline_plain
 from allreadings.points import mixed
 from allreadings.rowsof import broken_rows, is_plain, is_system, keeps, plain_row, worth_at
 from allreadings.shapes import is_shape, shape_of, whole_shape
+from allreadings.unbounded import left_of
 from allreadings.worlds import is_world, readings_moved, sensor_of, world_moved
 from tests.made import BIG, STRANGE, MadeWorlds, changed, exact, told, with_bools, with_kinds
 
@@ -274,13 +275,22 @@ class Sets(unittest.TestCase):
         self.assertGreater(empty, 15)
 
     def test_no_bound_on_rows(self):
-        # Forty slanted rows over the first stand make four hundred pairs and more, of which few are needed.
+        # 21 rows below and 21 above the last unknown, none needless, make 441 pairs of unlike directions.
+        rows = [((k, k * k, 1), 100) for k in range(21)] + [((k * k * k, 3 - 2 * k, -1), 100) for k in range(21)]
+        with self.assertRaises(TooMany):
+            outline_plain((3, rows), [0, 1])
+        left = left_of((3, rows), [2])
+        self.assertEqual(left[0], 2)
+        self.assertEqual(shape_of(left), outline((3, rows), [0, 1]))
+        self.assertEqual(shape_of(left_of((3, rows), [0, 2])), outline((3, rows), [1]))
+        self.assertEqual(shape_of(left_of((3, rows), [2, 0])), outline((3, rows), [1]))
+
+    def test_many_rows(self):
         start = [((1, k), 9) for k in range(1, 5)] + [((-1, -k), 9) for k in range(1, 5)]
         step = [((k, 1, 1, k), 9) for k in range(1, 5)] + [((-k, -1, -1, k), 9) for k in range(1, 5)]
         sensors = [(f"s{k}", (1, k), (9, 1)) for k in range(5, 11)]
         world = (2, 3, start, [step, step], sensors)
-        readings = [(f"r{k}", f"s{5 + k // 5}", k // 10, (k, 7)) for k in range(30)]
-        readings = [(label, name, moment, told(exact(worth))) for label, name, moment, worth in readings]
+        readings = [(f"r{k}", f"s{5 + k // 5}", k // 10, told(exact((k, 1)) / 7)) for k in range(30)]
         for moment in range(3):
             shape = set_at(world, readings, moment)
             self.assertEqual(shape, outline(all_rows(world, readings), [2 * moment, 2 * moment + 1]))
