@@ -51,7 +51,7 @@ class Joint(unittest.TestCase):
 
     def test_too_many_rows_the_plain_way(self):
         shape = hull(2, [[(k, 1), (k * k, 1)] for k in range(-15, 16)], [])
-        rows = [((1, 1, k, 1), 9) for k in range(15)] + [((1, -1, -k, 1), 9) for k in range(15)]
+        rows = [((1, 1, k, k * k), 9) for k in range(15)] + [((1, -1, -k, k * k), 9) for k in range(15)]
         with self.assertRaises(TooMany) as caught:
             stepped_plain(shape, rows)
         self.assertEqual((caught.exception.what, caught.exception.limit), ("rows", 400))
