@@ -225,3 +225,43 @@ class MadeWorlds(Made):
         linears = [self.linear(world) for _ in range(self.number(0, 4))]
         return (self.one_of([["x"], ["back"]]) if world[0] == 1 else self.one_of([["x", "y"], ["y1", "step"]]),
                 world, self.readings(world, self.number(0, 5)), linears)
+
+
+# Worlds at the edges of what the document tells, each with readings.
+EDGES = {
+    "one moment, nothing told": ((1, 1, [], [], []), []),
+    "eight moments, nothing told": ((2, 8, [], [[]] * 7, []), []),
+    "a point": ((1, 2, [((2,), 1), ((-2,), -1)], [[((1, -1), 0), ((-1, 1), 0)]], []), []),
+    "a false start row": ((1, 3, [((0,), -2)], [[], []], [("a", (1,), (0, 1))]), [("r", "a", 1, (1, 1))]),
+    "a false row of the last step": ((2, 3, [((1, 0), 1)], [[], [((0, 0, 0, 0), -1)]], []), []),
+    "idle rows": ((1, 3, [((0,), 0)], [[((0, 0), 3)], [((0, 0), 0), ((0, 1), 2)]], []), []),
+    "steps without rows": ((2, 3, [((1, 1), 4)], [[], []], [("a", (1, 0), (1, 2)), ("b", (0, 1), (0, 1))]),
+                           [("r1", "a", 0, (1, 3)), ("r2", "b", 0, (2, 1)), ("r3", "a", 2, (7, 1))]),
+    "equal readings": ((1, 2, [], [[((1, -1), 0), ((-1, 1), 1)]], [("a", (2,), (1, 1))]),
+                       [("r1", "a", 1, (5, 1)), ("r2", "a", 1, (5, 1)), ("r3", "a", 1, (5, 1))]),
+    "readings that clash at one moment": ((1, 3, [], [[], []], [("a", (1,), (1, 1)), ("b", (1,), (0, 1))]),
+                                          [("r1", "a", 1, (5, 1)), ("r2", "b", 1, (7, 1))]),
+    "readings that clash over a step": ((1, 3, [], [[((-1, 1), 1), ((1, -1), 1)]] * 2, [("a", (1,), (0, 1))]),
+                                        [("r1", "a", 2, (5, 1)), ("r2", "a", 0, (9, 1))]),
+    "a line": ((2, 2, [((1, -1), 0), ((-1, 1), 0)], [[((1, 0, -1, 0), 0), ((-1, 0, 1, 0), 0)]], []), []),
+    "drift without end": ((2, 3, [((-1, 0), 0), ((0, -1), 0)],
+                           [[((1, 0, -1, 0), 0), ((0, 1, 0, -1), 0)], [((1, 1, -1, -1), 0)]],
+                           [("a", (1, -1), (1, 1))]), [("r", "a", 1, (0, 1))]),
+    "equal rows": ((1, 2, [((1,), 1), ((1,), 1)], [[((1, -1), 0)] * 3], []), []),
+    "eight moments": ((1, 8, [((1,), 0), ((-1,), 0)], [[((-1, 1), 1), ((1, -1), 0)]] * 7, [("a", (1,), (1, 2))]),
+                      [("r1", "a", 7, (5, 1)), ("r2", "a", 3, (3, 1))]),
+    "as many unknowns as can be": ((2, 8, [((1, 0), 3), ((-1, 0), 3), ((0, 1), 2), ((0, -1), 2)],
+                                    [[((-1, -1, 1, 0), 1), ((1, 1, -1, 0), 1), ((0, -1, 0, 1), 1),
+                                      ((0, 1, 0, -1), 1)]] * 7, [("a", (1, 2), (1, 1))]),
+                                   [(f"r{k}", "a", k, (k, 1)) for k in range(0, 8, 2)]),
+}
+
+
+def made_moments(seed, count):
+    """The worlds at the edges, and then so many made ones, each with readings and a source of further values."""
+    made = MadeWorlds(seed)
+    for world, readings in EDGES.values():
+        yield made, world, readings
+    for _ in range(count):
+        world = made.world()
+        yield made, world, made.readings(world, made.number(0, 5))
