@@ -150,7 +150,7 @@ class Judge(unittest.TestCase):
             for value in STRANGE + [("set", [], [], []), ("set", None, None, None), ("set", [[]], [[]], [[]]),
                                     ("clash", None), ("set", [], [None], [None]), (None, [], [], [])]:
                 self.assertIs(is_set_paper(world, readings, moment, shape, value), False, value)
-                self.assertIs(is_set_paper(world, readings, moment, value, paper), value == shape, value)
+                self.assertIs(is_set_paper(world, readings, moment, value, paper), repr(value) == repr(shape), value)
                 self.assertIs(is_set_paper(world, readings, moment, value, value), False, value)
 
     def test_one_place_changed(self):
