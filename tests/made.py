@@ -265,3 +265,15 @@ def made_moments(seed, count):
     for _ in range(count):
         world = made.world()
         yield made, world, made.readings(world, made.number(0, 5))
+
+
+def made_questions(seed, count):
+    """Worlds and readings, each with terms and linears supposed, some of which leave no course."""
+    for made, world, readings in made_moments(seed, count):
+        terms = made.linear(world, made.one_of([1, 3]))[0]
+        supposed = [made.linear(world) for _ in range(made.one_of([0, 0, 1, 2, 4]))]
+        if supposed and made.number(0, 4) == 0:
+            forms, most = supposed[0]
+            contrary = [(moment, tuple(-number for number in numbers)) for moment, numbers in forms]
+            supposed = [supposed[0], (contrary, -most - made.number(0, 1))]
+        yield made, world, readings, terms, tuple(supposed) if made.number(0, 1) else supposed
