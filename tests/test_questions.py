@@ -32,8 +32,8 @@ def is_right_end(world, readings, terms, supposed, sign, told):
         worth = sum(number * a for moment, numbers in terms for number, a in zip(numbers, move[moment]))
         return (is_known(world, readings, course, supposed=supposed) and sign * worth > 0
                 and is_known_move(world, readings, move, supposed=supposed))
-    _, worth, course, weights = told
-    if not is_known(world, readings, course, supposed=supposed) or form_worth(terms, course) != worth:
+    word, worth, course, weights = told
+    if word != "at" or not is_known(world, readings, course, supposed=supposed) or form_worth(terms, course) != worth:
         return False
     expected = [sign * number for number in form_numbers(world, terms)], sign * exact(worth)
     return len(weights) == len(rows) and summed(rows, weights, many) == expected
@@ -203,8 +203,10 @@ class Peaks(unittest.TestCase):
             worths = [sum(a * b for a, b in zip(numbers, step)) for step in move]
             return (is_known(world, readings, course, supposed=supposed) and max(worths) < 0
                     and is_known_move(world, readings, move, supposed=supposed))
-        _, worth, course, shares, weights = paper
-        if not is_known(world, readings, course, supposed=supposed) or peak_worth(numbers, course) != worth:
+        word, worth, course, shares, weights = paper
+        if word != "peak" or not is_known(world, readings, course, supposed=supposed):
+            return False
+        if peak_worth(numbers, course) != worth:
             return False
         amounts = [exact(share) for share in shares]
         expected = [-number * share for share in amounts for number in numbers], -exact(worth)

@@ -103,6 +103,8 @@ class Errors(unittest.TestCase):
         # They are held against the first ones, which may be wrong themselves.
         self.check("ask x at 3 <= 1\nunknowns x\nmoments 0", WrongMoment, 3, 1)
         self.check("start z <= 1\nunknowns x x\nmoments 1", UnknownName, "z", 1)
+        # Only readings, questions and steps have a moment.
+        self.check("sensor a: x slack 1\nstart x <= 1\nsteps x' <= 1\nask 3 <= 1\nunknowns x\nmoments 0", WrongMoment, 0, 6)
         self.check("start y <= 1\nunknowns x\nmoments 1\nunknowns y", UnknownName, "y", 1)
 
     def test_comparisons(self):
