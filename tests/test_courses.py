@@ -285,6 +285,27 @@ class Sets(unittest.TestCase):
         self.assertEqual(shape_of(left_of((3, rows), [0, 2])), outline((3, rows), [1]))
         self.assertEqual(shape_of(left_of((3, rows), [2, 0])), outline((3, rows), [1]))
 
+    def test_no_bound_where_the_plain_outline_has_one(self):
+        bound = 0
+        for seed in range(4):
+            made = MadeWorlds(seed)
+            size = made.number(2, 9)
+            steps = [[(tuple(number or 1 for number in made.numbers(4, size)), made.number(30, 120)) for _ in range(8)]
+                     for _ in range(2)]
+            start = [(made.direction(2), made.number(20, 80)) for _ in range(8)]
+            sensors = [(f"s{k}", made.direction(2), (made.number(20, 60), 1)) for k in range(6)]
+            readings = [(f"r{k}", f"s{k % 6}", k // 6, (k % 3, 1)) for k in range(18)]
+            world = (2, 3, start, steps, sensors)
+            for moment in range(3):
+                shape = set_at(world, readings, moment)
+                places = [2 * moment, 2 * moment + 1]
+                self.assertEqual(shape, outline(all_rows(world, readings), places))
+                try:
+                    self.assertEqual(shape, outline_plain(all_rows(world, readings), places))
+                except TooMany:
+                    bound += 1
+        self.assertGreater(bound, 0)
+
     def test_many_rows(self):
         start = [((1, k), 9) for k in range(1, 5)] + [((-1, -k), 9) for k in range(1, 5)]
         step = [((k, 1, 1, k), 9) for k in range(1, 5)] + [((-k, -1, -1, k), 9) for k in range(1, 5)]

@@ -9,7 +9,7 @@ from allreadings.linears import form_numbers, form_worth, is_known, is_known_mov
 from allreadings.points import mixed
 from allreadings.questions import ends, highest, is_least_peak, is_reach, least_peak, plain_ends, reach
 from allreadings.worlds import readings_moved, world_moved
-from tests.made import STRANGE, changed, exact, made_questions, with_bools, with_kinds
+from tests.made import STRANGE, MadeWorlds, changed, exact, made_questions, with_bools, with_kinds
 
 CART = (1, 2, [((-1,), 0)], [[((-1, 1), 2), ((1, -1), 0)]], [("a", (1,), (1, 1))])
 HEARD = [("r", "a", 1, (5, 1))]
@@ -104,6 +104,26 @@ class Reaches(unittest.TestCase):
                 plain_ends((many, moments, [], [[]] * (moments - 1), []), [], [])
             self.assertEqual((caught.exception.what, caught.exception.limit), ("unknowns", 6))
         self.assertEqual(plain_ends((1, 6, [], [[]] * 5, []), [], [(5, (1,))]), (None, None))
+
+    def test_rows_of_the_plain_way(self):
+        made = MadeWorlds(15)
+        bound = 0
+        for _ in range(4):
+            size = made.number(2, 9)
+            steps = [[(tuple(number or 1 for number in made.numbers(4, size)), made.number(30, 120)) for _ in range(8)]
+                     for _ in range(2)]
+            start = [(made.direction(2), made.number(20, 80)) for _ in range(8)]
+            world = (2, 3, start, steps, [])
+            supposed = [([(moment, made.direction(2)) for moment in range(3)], made.number(20, 80)) for _ in range(4)]
+            terms = [(moment, made.direction(2)) for moment in range(3)]
+            told = ends(world, [], terms, supposed=supposed)
+            self.assertTrue(is_reach(world, [], terms, reach(world, [], terms, supposed=supposed), supposed=supposed))
+            try:
+                self.assertEqual(plain_ends(world, [], terms, supposed=supposed), told)
+            except TooMany as error:
+                bound += 1
+                self.assertEqual((error.what, error.limit), ("rows", 400))
+        self.assertGreater(bound, 0)
 
     def test_by_name_alone(self):
         supposed = [(RISE, 1)]
