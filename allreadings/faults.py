@@ -13,7 +13,7 @@ class Checking:
     """
 
     def __init__(self, names, moments, sensors):
-        self.names = names
+        self.unknowns = names
         self.moments = moments
         self.sensors = sensors
         self.frame = {}
@@ -68,7 +68,7 @@ class Checking:
     def _check_form(self, form, row, is_question):
         """Each unknown, and in a question its moment behind it."""
         for _, name, place in form:
-            if name != "" and name not in self.names:
+            if name != "" and name not in self.unknowns:
                 raise UnknownName(name, row)
             if name != "" and is_question:
                 self._check_moment(place, row)

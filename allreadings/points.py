@@ -4,7 +4,6 @@ from allreadings.basics import check_many, common_divisor
 from allreadings.errors import NoDirection, NothingGiven, UnevenPoint
 from allreadings.fractions import ONE, compare, fraction, is_fraction, minus, over, over_one_below, plus
 from allreadings.fractions import times, total, whole
-from allreadings.parts import worth_key
 from allreadings.rowsof import MOST_ROWS, MOST_UNKNOWNS
 
 
@@ -43,7 +42,10 @@ def rising_points(points):
     found = {}
     for point in points:
         found[tuple(point)] = True
-    rising = sorted(list(found), key=lambda numbers: [worth_key(a) for a in numbers])
+    # Unlike fractions lie at least 1 divided by the product of their belows apart, so their floors are unlike, too,
+    # once all are multiplied by the square of the greatest below.
+    scale = max([a[1] for point in points for a in point], default=1) ** 2
+    rising = sorted(list(found), key=lambda numbers: [a[0] * scale // a[1] for a in numbers])
     return [list(point) for point in rising]
 
 

@@ -1,5 +1,6 @@
 """Inputs made without chance: a fixed sequence of numbers for each seed, and values with one place changed."""
 
+import math
 from fractions import Fraction
 
 from allreadings.fractions import fraction
@@ -277,3 +278,43 @@ def made_questions(seed, count):
             contrary = [(moment, tuple(-number for number in numbers)) for moment, numbers in forms]
             supposed = [supposed[0], (contrary, -most - made.number(0, 1))]
         yield made, world, readings, terms, tuple(supposed) if made.number(0, 1) else supposed
+
+
+def made_conflicts(seed, count, most=6):
+    """Worlds with sensors, each with readings of which some are at odds, and a source of further values."""
+    made = MadeWorlds(seed)
+    for world, readings in EDGES.values():
+        if world[4]:
+            yield made, world, readings[:most]
+    for _ in range(count):
+        world = made.world()
+        readings = made.readings(world, made.number(0, most))
+        for k in range(len(readings)):
+            if made.number(0, 3) == 0:
+                label, name, moment, worth = readings[k]
+                readings[k] = (label, name, moment, told(exact(worth) + made.number(-4, 4)))
+        yield made, world, readings
+
+
+def doubled(readings, label="zz"):
+    """The readings with the first one behind them once more, under another label."""
+    return readings + [(label,) + reading[1:] for reading in readings[:1]]
+
+
+def folded():
+    """A world and readings whose sets have twice as many sides from moment to moment back, but few at moment 0.
+
+    Each step turns the plane and folds it along a line; so a shape of more than 200 rows is stepped back to moment 0.
+    """
+    size = 10 ** 6
+    steps = [[((1, 0, -1, 0), 0), ((-1, 0, 1, 0), 0), ((0, 1, 0, 0), 0), ((0, -1, 0, 0), 0)]]
+    for k in range(2, 8):
+        turn = math.pi / 2 ** k
+        c, s = round(size * math.cos(turn)), round(size * math.sin(turn))
+        steps.append([((c, s, -size, 0), 0), ((-c, -s, size, 0), 0), ((-s, c, 0, -size), 0), ((s, -c, 0, -size), 0)])
+    sensors, readings = [], []
+    for k in range(4):
+        turn = math.pi / 2 ** 7 * (2 * k / 7)
+        sensors.append((f"s{k}", (round(size * math.cos(turn)), round(size * math.sin(turn))), (10 * size, 1)))
+        readings.append((f"r{k}", f"s{k}", 7, (-9 * size, 1)))
+    return (2, 8, [], steps, sensors), readings

@@ -34,8 +34,8 @@ NODES = (
     ast.comprehension, ast.Lambda, ast.keyword, ast.Starred, ast.JoinedStr, ast.FormattedValue, ast.operator,
     ast.unaryop, ast.boolop, ast.cmpop, ast.expr_context, ast.Try, ast.ExceptHandler, ast.Delete)
 OWN_ERRORS = {"TermError", "MissingError", "StateError", "LimitError"}
-KEYWORD_ONLY = {"supposed"}
-KEYWORDS = {"sorted": {"key"}, "max": {"default"}}
+KEYWORD_ONLY = {"supposed", "most"}
+KEYWORDS = {"sorted": {"key"}, "max": {"default"}, "min": {"default"}}
 AT_ONCE = {"zip", "enumerate", "reversed", "range"}
 
 
@@ -119,10 +119,14 @@ class Files(unittest.TestCase):
                 elif isinstance(node, ast.Assign):
                     self.assertEqual(len(node.targets), 1)
                     self.assertIsInstance(node.targets[0], ast.Name)
-                    worth = ast.literal_eval(node.value)
-                    self.assertIsInstance(worth, (int, str, tuple, dict))
-                    if isinstance(worth, dict):
-                        hash(tuple(worth.items()))
+                    if isinstance(node.value, ast.Dict) and all(isinstance(part, ast.Name) for part in node.value.values):
+                        # A table of functions that are defined above it.
+                        self.assertLessEqual({part.id for part in node.value.values}, set(names), path)
+                    else:
+                        worth = ast.literal_eval(node.value)
+                        self.assertIsInstance(worth, (int, str, tuple, dict))
+                        if isinstance(worth, dict):
+                            hash(tuple(worth.items()))
                     names.append(node.targets[0].id)
                 elif isinstance(node, (ast.FunctionDef, ast.ClassDef)):
                     names.append(node.name)
@@ -168,7 +172,7 @@ class Words(unittest.TestCase):
             for node in ast.walk(tree):
                 if isinstance(node, ast.Name) and isinstance(node.ctx, ast.Load):
                     self.assertNotEqual(node.id, "_", path)
-                    if node.id in BUILTINS and node.id != "property":
+                    if node.id in BUILTINS and node.id not in ("property", "staticmethod"):
                         self.assertIn(node.id, ALLOWED_BUILTINS, (path, node.lineno))
 
     def test_strings(self):
@@ -189,9 +193,12 @@ class Words(unittest.TestCase):
                 if isinstance(node, ast.ClassDef):
                     self.assertEqual(node.decorator_list, [], path)
                 if isinstance(node, ast.FunctionDef) and node.decorator_list:
+                    self.assertTrue(any(node in top.body for top in tree.body if isinstance(top, ast.ClassDef)), path)
+                    if [part.id for part in node.decorator_list] == ["staticmethod"]:
+                        self.assertNotIn("self", [part.arg for part in node.args.args], path)
+                        continue
                     # A property, which changes nothing: it is one return behind its docstring.
                     self.assertEqual([part.id for part in node.decorator_list], ["property"], path)
-                    self.assertTrue(any(node in top.body for top in tree.body if isinstance(top, ast.ClassDef)), path)
                     self.assertEqual([type(part) for part in node.body], [ast.Expr, ast.Return], path)
                     self.assertEqual([part.arg for part in node.args.args], ["self"], path)
                 if isinstance(node, ast.ClassDef):
@@ -228,7 +235,7 @@ class Errors(unittest.TestCase):
         properties, stored = set(), set()
         for path in FILES:
             for node in ast.walk(parsed(path)):
-                if isinstance(node, ast.FunctionDef) and node.decorator_list:
+                if isinstance(node, ast.FunctionDef) and "property" in [part.id for part in node.decorator_list]:
                     properties.add(node.name)
                 if isinstance(node, ast.Attribute) and isinstance(node.ctx, ast.Store):
                     stored.add(node.attr)
@@ -289,6 +296,8 @@ class Calls(unittest.TestCase):
                         else:
                             self.assertIn(word.arg, KEYWORDS.get(called_name(node), ()), (path, node.lineno))
                         keys.add(id(word.value))
+                    if called_name(node) in self.own:
+                        keys |= {id(part) for part in node.args}
             for node in ast.walk(tree):
                 if isinstance(node, ast.Lambda):
                     self.assertIn(id(node), keys, path)
