@@ -318,3 +318,31 @@ def folded():
         sensors.append((f"s{k}", (round(size * math.cos(turn)), round(size * math.sin(turn))), (10 * size, 1)))
         readings.append((f"r{k}", f"s{k}", 7, (-9 * size, 1)))
     return (2, 8, [], steps, sensors), readings
+
+
+WORDS = ["course", "set", "stand", "reach", "peak", "saying", "by", "conflicts", "extra", "sensor", "spread", "said"]
+
+
+def made_asked(made, world, word):
+    """A QUESTION of the world with the word, None if it has none."""
+    moment, many = made.number(0, world[1] - 1), world[0]
+    supposed = [made.linear(world) for _ in range(made.one_of([0, 0, 0, 1, 3]))]
+    names, wrong = [sensor[0] for sensor in world[4]], made.number(0, 3)
+    if word == "stand":
+        return (word, moment, made.point(many, 4))
+    if word == "reach":
+        return (word, made.linear(world, made.one_of([1, 3]))[0], supposed)
+    if word == "peak":
+        return (word, made.direction(many), supposed)
+    if word == "saying":
+        linears = [made.linear(world, 2) for _ in range(made.one_of([0, 1, 1, 2, 4, 8]))]
+        return (word, (made.one_of(["all", "any"]), linears), supposed)
+    if word == "by":
+        return (word, made.direction(many), made.number(-5, 6), supposed)
+    if word == "sensor":
+        return (word, wrong, made.one_of(names)) if names else None
+    if word == "said":
+        numbers, most = made.row(many * world[1], made.one_of([1, 2]))
+        return (word, wrong, (numbers, most + made.one_of([0, 5, -5])))
+    parts = {"set": (moment,), "spread": (wrong, moment)}
+    return (word,) + parts.get(word, ())
