@@ -4,9 +4,10 @@ import importlib
 import inspect
 import unittest
 
-from allreadings import allrows, arrivals, backwards, clashes, corners, courses, everywhere, forwards, greatest, images
-from allreadings import keeping, linears, meets, needless, outlines, outs, pairing, points, questions, reader, rowsof
-from allreadings import setpapers, shapes, solving, stepping, worlds, writer
+from allreadings import allrows, answering, answers, arrivals, backwards, choosing, clashes, conflicts, corners, courses, desks
+from allreadings import deskhouse, doubted, doubtpapers, everywhere, forwards, greatest, hitting, images, keeping, linears, meets
+from allreadings import needless, outlines, outs, pairing, plainly, plans, points, questions, reader, repairs, rowsof, setpapers
+from allreadings import shapes, solving, stepping, thinning, watches, widening, worlds, writer
 from tests.test_shapes import KINDS
 
 TOLD = {
@@ -82,6 +83,42 @@ TOLD = {
                " form_numbers(world,terms) linear_row(world,linear) linears_at(numbers,most,first,last)"
                " form_worth(terms,course) peak_worth(numbers,course) keeps_linear(linear,course)"
                " keeps_saying(saying,course)",
+    "conflicts": "lot_of(readings,labels) readings_of(readings,lot) other_lot(readings,lot) lot_holds(world,readings,lot)"
+                 " lot_paper(world,readings,lot) is_lot_paper(world,readings,lot,value) is_least_lot(world,readings,lot)"
+                 " least_paper(world,readings,lot) is_least_paper(world,readings,lot,value)"
+                 " left_lot(world,readings,lot) lot_by_papers(world,readings,lot) least_lots_plain(world,readings)",
+    "hitting": "is_family(value) hits(lot,family) thinned_family(family) least_hitting_plain(family)"
+               " least_hitting(family)",
+    "repairs": "is_repair(world,readings,lot) lots_and_repairs(world,readings) fewest_repairs(world,readings)"
+               " conflict_paper(world,readings) is_conflict_paper(world,readings,value)",
+    "widening": "raised_world(world,extra) widened(world,readings) least_extra(world,readings)"
+                " is_extra_paper(world,readings,value)",
+    "choosing": "is_choice(world,value) all_choices(world,most) kept_readings(readings,choice)"
+                " fits(world,readings,choice) fitting_choices(world,readings,most) fitting_by_least(world,readings,most)"
+                " least_choices(world,readings) least_wrong(world,readings) blamed_sensors(world,readings,weights)"
+                " is_table(world,readings,most,must,never,rows,goal,value)"
+                " choice_paper(world,readings,most,must,never,rows)"
+                " is_choice_paper(world,readings,most,must,never,rows,value)",
+    "doubted": "sensor_standing(world,readings,most,sensor) sensor_papers(world,readings,most,sensor)"
+               " spread(world,readings,most,moment) spread_by_size(world,readings,most,moment)"
+               " said_in_doubt(world,readings,most,row)",
+    "doubtpapers": "spread_paper(world,readings,most,moment) is_spread_paper(world,readings,most,moment,shapes,value)"
+                   " saying_paper(world,readings,most,row) is_saying_paper(world,readings,most,row,value)",
+    "watches": "ruling(world,readings,claim) is_ruling(world,readings,claim,value) watched(world,readings,claim)"
+               " watch_paper(world,readings,claim) is_watch_paper(world,readings,claim,value)",
+    "plans": "width_of(world,readings,numbers) width_behind(world,readings,pick,worths,numbers)"
+             " twin_rows(world,readings,pick) middle_worths(world,pick,course,other)"
+             " worst_width(world,readings,pick,numbers) plan_list(world,readings,numbers)"
+             " best_pick(world,readings,numbers,many) is_worst_paper(world,readings,pick,numbers,value)",
+    "thinning": "news(world,readings,label) is_news(world,readings,label,value) quiet_labels(world,readings)"
+                " thin_paper(world,readings,lot) is_thin_paper(world,readings,lot,value) thinned_plain(world,readings)"
+                " thinned(world,readings) thinned_to(world,readings,numbers,loss)",
+    "answering": "is_question(world,value) answer_to(world,readings,question) sheaf(world,readings,questions)"
+                 " gist(question,answer)",
+    "judging": "is_answer(world,readings,question,value) first_unfit(world,readings,questions,answers)",
+    "plainly": "plain_gist(world,readings,question)",
+    "desks": "is_letter(world,value) know_same(one,other) exchange(one,other)",
+    "commands": "is_command(value) is_deed(command)",
 }
 
 # Functions with a parameter that is passed by its name alone.
@@ -91,12 +128,26 @@ SUPPOSING = {
     "questions": "reach(world,readings,terms) is_reach(world,readings,terms,value) ends(world,readings,terms)"
                  " plain_ends(world,readings,terms) highest(world,readings,numbers)"
                  " least_peak(world,readings,numbers) is_least_peak(world,readings,numbers,value)",
+    "answers": "verdict(world,readings,saying) is_verdict(world,readings,saying,value) word_of(world,readings,saying)"
+               " spells(world,readings,numbers,most) first_surely(world,readings,numbers,most)"
+               " by_paper(world,readings,numbers,most) is_by_paper(world,readings,numbers,most,value)"
+               " by_when(world,readings,numbers,most)",
 }
 
-KEEPER = (
-    "take(arrival) hear(reading) take_back(label) take_all(arrivals) undo() state_of(label) reading_of(label)"
-    " before_at(moment) behind_at(moment) told_at(moment) all_told() is_clashing() paper_at(moment) made() late()"
-    " firm(most) moved_by(arrival) twin()")
+# The classes, each with its parameters, its methods and its properties.
+CLASSES = {
+    (keeping.Keeper, "world"): (
+        "take(arrival) hear(reading) take_back(label) take_all(arrivals) undo() state_of(label) reading_of(label)"
+        " before_at(moment) behind_at(moment) told_at(moment) all_told() is_clashing() paper_at(moment) made() late()"
+        " firm(most) moved_by(arrival) twin()", "world log readings"),
+    (watches.Watch, "world,claim"): ("hear(reading) heard() word() ruling_now() paper()", ""),
+    (desks.Desk, "name,world,fellows"): (
+        "hear(reading) take_back(label) letter(fellow,most) take_letter(value) had_from(fellow) acked_by(fellow)"
+        " told_at(moment) paper_at(moment)", "called world fellows roll readings"),
+    (deskhouse.House, ""): (
+        "do(command) do_all(commands) attempt(commands) world_at(name) arrivals_at(name) readings_at(name) note(label)"
+        " status(label) gist_of(label)", "names labels log"),
+}
 
 
 def functions_told(told):
@@ -125,16 +176,25 @@ class Interface(unittest.TestCase):
             self.assertEqual(told["supposed"].kind, inspect.Parameter.KEYWORD_ONLY, name)
             self.assertEqual(told["supposed"].default, (), name)
 
-    def test_keeper(self):
-        self.assertEqual(keeping.Keeper.__module__, "allreadings.keeping")
-        self.assertEqual(list(inspect.signature(keeping.Keeper).parameters), ["world"])
-        for told in KEEPER.split():
-            name, parameters = told[:-1].split("(")
-            method = vars(keeping.Keeper)[name]
-            self.assertEqual(list(inspect.signature(method).parameters), ["self"] + parameters.split(",")[:bool(
-                parameters)], name)
-        for name in ["world", "log", "readings"]:
-            self.assertIsInstance(vars(keeping.Keeper)[name], property)
+    def test_classes(self):
+        for (kind, given), (methods, properties) in CLASSES.items():
+            self.assertEqual(list(inspect.signature(kind).parameters), given.split(",") if given else [])
+            for told in methods.split():
+                name, parameters = told[:-1].split("(")
+                method = vars(kind)[name]
+                self.assertTrue(inspect.isfunction(method))
+                self.assertEqual(list(inspect.signature(method).parameters), ["self"] + parameters.split(",")[:bool(
+                    parameters)] + parameters.split(",")[1:], name)
+            for name in properties.split():
+                self.assertIsInstance(vars(kind)[name], property)
+        self.assertEqual([kind.__module__ for kind, _ in CLASSES],
+                         ["allreadings." + file for file in ("keeping", "watches", "desks", "deskhouse")])
+
+    def test_passed_by_name_alone_and_static(self):
+        most = inspect.signature(desks.Desk.letter).parameters["most"]
+        self.assertEqual((most.kind, most.default), (inspect.Parameter.KEYWORD_ONLY, 40))
+        self.assertIsInstance(vars(deskhouse.House)["again"], staticmethod)
+        self.assertEqual(list(inspect.signature(deskhouse.House.again).parameters), ["commands"])
 
 
 def lists_within(value):
@@ -247,6 +307,63 @@ CALLS = CALLS + [
     (questions.plain_ends, WORLD, READS, TERMS), (questions.highest, WORLD, READS, (1, 0)),
     (supposing, questions.least_peak, WORLD, READS, (1, 1)), (questions.least_peak, WORLD, READS, (0, -1)),
     (questions.least_peak, WORLD, AGAINST, (1, 1)),
+]
+
+LINEARS = [(TERMS, 2), ([(1, (0, 1))], -3)]
+NUMBERS = (1, 0, 0, 0, 0, 1)
+FAMILY = [["a", "b"], ["b", "c"]]
+DOUBTED = AGAINST + [("r4", "b", 0, (7, 1))]
+SPREAD = doubted.spread(WORLD, DOUBTED, 1, 0)
+PICK = [("a", 0), ("b", 2)]
+
+
+def asking(question, readings=READS):
+    """An answer, and the question as one of the arguments."""
+    return answering.answer_to(WORLD, readings, question)
+
+
+CALLS = CALLS + [
+    (answers.verdict, WORLD, READS, ("all", LINEARS)), (answers.verdict, WORLD, READS, ("any", LINEARS)),
+    (answers.verdict, WORLD, AGAINST, ("any", LINEARS)), (answers.verdict, WORLD, READS, ("all", [])),
+    (answers.verdict, WORLD, READS, ("any", LINEARS[1:])), (supposing, answers.verdict, WORLD, READS, ("all", LINEARS)),
+    (answers.spells, WORLD, READS, (1, 0), 3), (answers.by_paper, WORLD, READS, (1, 0), 3),
+    (answers.by_paper, WORLD, READS, (-1, 0), 0), (answers.by_paper, WORLD, READS, (-1, -1), -1),
+    (conflicts.lot_of, READS, ["r2", "r1"]), (conflicts.lot_of, READS, []), (conflicts.readings_of, READS, ["r1", "r2"]),
+    (conflicts.other_lot, READS, []), (conflicts.lot_paper, WORLD, AGAINST, ["r1", "r2"]),
+    (conflicts.lot_paper, WORLD, AGAINST, ["r3"]), (conflicts.least_paper, WORLD, AGAINST, ["r3"]),
+    (conflicts.left_lot, WORLD, AGAINST, ["r3"]), (conflicts.lot_by_papers, WORLD, AGAINST, ["r3"]),
+    (conflicts.least_lots_plain, WORLD, AGAINST), (hitting.thinned_family, FAMILY), (hitting.least_hitting, FAMILY),
+    (hitting.least_hitting_plain, FAMILY), (hitting.thinned_family, [["a"]]), (repairs.lots_and_repairs, WORLD, DOUBTED),
+    (repairs.fewest_repairs, WORLD, AGAINST), (repairs.conflict_paper, WORLD, DOUBTED), (widening.raised_world, WORLD, (0, 1)),
+    (widening.widened, WORLD, READS), (widening.least_extra, WORLD, AGAINST), (widening.least_extra, WORLD, READS),
+    (choosing.all_choices, WORLD, 2), (choosing.kept_readings, READS, []), (choosing.fitting_choices, WORLD, READS, 2),
+    (choosing.fitting_by_least, WORLD, READS, 2), (choosing.least_choices, WORLD, DOUBTED),
+    (choosing.blamed_sensors, WORLD, READS, [(1, 1)] * 10), (choosing.choice_paper, WORLD, READS, 1, ["a"], [], [(NUMBERS, 9)]),
+    (choosing.choice_paper, WORLD, DOUBTED, 1, [], ["a"], []), (choosing.choice_paper, WORLD, READS, 0, ["a"], [], []),
+    (doubted.sensor_papers, WORLD, DOUBTED, 1, "a"), (doubted.spread, WORLD, DOUBTED, 1, 0),
+    (doubted.spread_by_size, WORLD, DOUBTED, 2, 0), (doubtpapers.spread_paper, WORLD, DOUBTED, 1, 0),
+    (doubtpapers.spread_paper, WORLD, DOUBTED, 0, 0), (doubtpapers.saying_paper, WORLD, DOUBTED, 2, (NUMBERS, 3)),
+    (doubtpapers.saying_paper, WORLD, READS, 0, (NUMBERS, 99)), (doubtpapers.saying_paper, WORLD, READS, 1, (NUMBERS, -9)),
+    (doubtpapers.saying_paper, WORLD, DOUBTED, 0, (NUMBERS, -9)), (watches.ruling, WORLD, READS, (NUMBERS, 2)),
+    (watches.ruling, WORLD, AGAINST, (NUMBERS, 2)), (watches.watched, WORLD, READS, (NUMBERS, 2)),
+    (watches.watch_paper, WORLD, AGAINST, (NUMBERS, 2)), (watches.watch_paper, WORLD, READS, (NUMBERS, 99)),
+    (plans.twin_rows, WORLD, READS, PICK), (plans.middle_worths, WORLD, PICK, [STAND] * 3, [STAND] * 3),
+    (plans.worst_width, WORLD, READS, PICK, NUMBERS), (plans.worst_width, WORLD, READS, [], (0, 0, 0, 0, 0, 1)),
+    (plans.worst_width, WORLD, [], [], NUMBERS), (plans.plan_list, WORLD, READS, NUMBERS),
+    (plans.best_pick, WORLD, READS, NUMBERS, 1), (plans.best_pick, WORLD, READS, NUMBERS, 0),
+    (thinning.news, WORLD, READS, "r1"), (thinning.news, WORLD, READS + [("r9", "b", 2, (1, 2))], "r2"),
+    (thinning.news, WORLD, AGAINST, "r1"), (thinning.quiet_labels, WORLD, READS), (thinning.thin_paper, WORLD, AGAINST, ["r3"]),
+    (thinning.thinned, WORLD, READS), (thinning.thinned_plain, WORLD, READS), (thinning.thinned_to, WORLD, READS, NUMBERS, (1, 1)),
+    (thinning.thinned_to, WORLD, READS, (1, 1, 0, 0, 0, 0), (0, 1)),
+    (asking, ("course",)), (asking, ("set", 0)), (asking, ("stand", 0, STAND)), (asking, ("reach", TERMS, LINEARS)),
+    (asking, ("peak", (1, 1), LINEARS)), (asking, ("saying", ("any", LINEARS), LINEARS)), (asking, ("by", (1, 0), 3, [])),
+    (asking, ("conflicts",)), (asking, ("extra",)), (asking, ("sensor", 1, "a")), (asking, ("spread", 1, 2)),
+    (asking, ("said", 1, (NUMBERS, 1))), (asking, ("stand", 0, [(-1, 1), (1, 1)])), (asking, ("conflicts",), AGAINST),
+    (answering.sheaf, WORLD, READS, [("set", 0), ("set", 0), ("course",)]),
+    (answering.gist, ("set", 0), asking(("set", 0))), (answering.gist, ("conflicts",), asking(("conflicts",), AGAINST)),
+    (answering.gist, ("spread", 1, 2), asking(("spread", 1, 2))), (plainly.plain_gist, WORLD, READS, ("set", 1)),
+    (plainly.plain_gist, WORLD, READS, ("spread", 1, 1)), (plainly.plain_gist, WORLD, AGAINST, ("conflicts",)),
+    (plainly.plain_gist, WORLD, READS, ("saying", ("any", LINEARS), LINEARS)),
 ]
 
 
