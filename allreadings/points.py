@@ -45,7 +45,7 @@ def rising_points(points):
     # Unlike fractions lie at least 1 divided by the product of their belows apart, so their floors are unlike, too,
     # once all are multiplied by the square of the greatest below.
     scale = max([a[1] for point in points for a in point], default=1) ** 2
-    rising = sorted(list(found), key=lambda numbers: [a[0] * scale // a[1] for a in numbers])
+    rising = sorted(list(found), key=lambda numbers: [part[0] * scale // part[1] for part in numbers])
     return [list(point) for point in rising]
 
 

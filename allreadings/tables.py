@@ -9,7 +9,7 @@ from allreadings.clashes import follows, is_clash
 from allreadings.courses import is_allowed
 from allreadings.following import Following
 from allreadings.fractions import NOUGHT
-from allreadings.points import is_amounts, joined_points
+from allreadings.points import joined_points
 from allreadings.rowsof import broken_rows
 
 
@@ -146,8 +146,6 @@ def is_table_of(world, readings, question, goal, value):
     system = question_system(world, readings, question[3])
     blames = []
     for choice, weights in value:
-        if not is_amounts(weights, len(system[1])):
-            return False
         if not is_clash(system, weights) and (goal is None or not follows(system, goal, weights)):
             return False
         blames.append(blamed_by(world, readings, weights))

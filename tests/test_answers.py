@@ -346,6 +346,10 @@ class ByJudge(unittest.TestCase):
         self.assertIs(is_by_paper(CART, HEARD, (-1,), -4, (word, moment, told, [[(3, 1)], [(5, 1)]])), True)
         self.assertIs(is_by_paper(CART, HEARD, (-1,), -4, (word, moment, ("clash", noughts), course)), False)
         self.assertIs(is_by_paper(CART, HEARD, (-1,), -4, (word, 2, told, course)), False)
+        # Moments that the world has not, with linears of noughts in their place.
+        far, kept = [[(2, 1)], [(4, 1)]], ("surely", ([(0, 1), (0, 1), (1, 1)], noughts), course)
+        for moment in (2, 3, 9):
+            self.assertIs(is_by_paper(CART, HEARD, (1,), 0, (word, moment, kept, far)), False)
         # Kept by 1 is not by 0; what breaks all moments is known only where the paper is open.
         self.assertIs(is_by_paper(CART, HEARD, (-1,), -4, ("open", course)), False)
         self.assertIs(is_by_paper(CART, HEARD, (-1,), -7, ("open", [[(6, 1)], [(6, 1)]])), True)

@@ -3,6 +3,7 @@
 import unittest
 
 from allreadings.allrows import all_rows, at_moment
+from allreadings.courses import set_at
 from allreadings.doubted import said_in_doubt, spread
 from allreadings.doubtpapers import is_saying_paper, is_spread_paper, saying_paper, spread_paper
 from allreadings.errors import InvalidMany
@@ -126,6 +127,39 @@ class SpreadPapers(unittest.TestCase):
         paper = set_paper(STILL, kept, 0)
         for others, told in [(sorted(shapes + [less]), inside + [(["b"], paper)]), ([less] + shapes, [(["b"], paper)] + inside)]:
             self.assertIs(is_spread_paper(STILL, TOLD, 2, 0, others, (word, told, table)), False)
+
+    def test_sorted_once_and_not_empty(self):
+        shapes, (word, inside, table) = spread(STILL, TOLD, 2, 0), spread_paper(STILL, TOLD, 2, 0)
+
+        def placed(places):
+            return [(choice, None if place is None else places[place], sums) for choice, place, sums in table]
+        self.assertIs(is_spread_paper(STILL, TOLD, 2, 0, shapes, (word, inside, placed([0, 1]))), True)
+        self.assertIs(is_spread_paper(STILL, TOLD, 2, 0, shapes[::-1], (word, inside[::-1], placed([1, 0]))), False)
+        self.assertIs(is_spread_paper(STILL, TOLD, 2, 0, shapes[:1] + shapes, (word, inside[:1] + inside, placed([0, 2]))), False)
+        # Where no choice fits, the spread is the empty list, and not the list of the empty set.
+        word, inside, table = spread_paper(STILL, TOLD, 0, 0)
+        self.assertEqual((inside, table[0][:2]), ([], ([], None)))
+        self.assertIs(is_spread_paper(STILL, TOLD, 0, 0, [], (word, [], table)), True)
+        empty = [([], ("clash", table[0][2][0]))]
+        for told in [table, [([], 0, table[0][2])], [([], 0, [])]]:
+            self.assertIs(is_spread_paper(STILL, TOLD, 0, 0, [("empty", 1)], (word, empty, told)), False)
+        # A shape of the wrong number of unknowns.
+        flat = ("shape", 2, [], [[(0, 1), (0, 1)]], [(-1, 0), (0, -1), (0, 1), (1, 0)])
+        self.assertIs(is_spread_paper(STILL, [], 0, 0, [flat], (word, [([], ("set", [], [[[(0, 1)], [(0, 1)]]], []))], [([], 0, [])])), False)
+
+    def test_one_in_another(self):
+        """Sets of two choices of which one lies in the other one are no spread, though each has its paper."""
+        world = (1, 1, [], [], [("a", (1,), (1, 1)), ("b", (1,), (2, 1))])
+        readings = [("r", "a", 0, (0, 1)), ("s", "b", 0, (0, 1))]
+        near, far = set_at(world, readings[:1], 0), set_at(world, readings[1:], 0)
+        told = sorted([(near, (["b"], set_paper(world, readings[:1], 0))), (far, (["a"], set_paper(world, readings[1:], 0)))])
+        shapes, inside = [shape for shape, _ in told], [pair for _, pair in told]
+        self.assertEqual(spread(world, readings, 1, 0), [far])
+        word, alone, table = spread_paper(world, readings, 1, 0)
+        place = shapes.index(far)
+        moved = [(choice, place, sums) for choice, _, sums in table]
+        self.assertIs(is_spread_paper(world, readings, 1, 0, [far], (word, alone, table)), True)
+        self.assertIs(is_spread_paper(world, readings, 1, 0, shapes, (word, inside, moved)), False)
 
     def test_whole_plane_and_no_rows(self):
         told = spread_paper(SIX, SIX_TOLD, 6, 0)

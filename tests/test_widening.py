@@ -132,6 +132,10 @@ class Judge(unittest.TestCase):
         self.assertIs(is_extra_paper(GROW, agree, (word, (0, 1), [[(1, 1)], [(4, 1)]], last)), False)
         self.assertIs(is_extra_paper(GROW, agree, (word, (1, 2), calm, last)), False)
         self.assertIs(is_extra_paper(GROW, THREE, least_extra(GROW, agree)), False)
+        # Slacks that could be less are no extra below nought.
+        for above, below in [(-1, 2), (-1, 1)]:
+            less = [(0, 1)] * 5 + [(below, 1)]
+            self.assertIs(is_extra_paper(GROW, agree, (word, (above, below), [[(4, 1)], [(5, 1)]], less)), False)
         for value in STRANGE:
             self.assertIs(is_extra_paper(GROW, THREE, (word, value, course, weights)), False)
             self.assertIs(is_extra_paper(GROW, THREE, (word, amount, value, weights)), False)
