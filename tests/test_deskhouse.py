@@ -1,5 +1,6 @@
 """Houses: each command and its errors, undone and redone, lists of commands, notes and their statuses."""
 
+import copy
 import unittest
 
 from allreadings.answering import answer_to, gist
@@ -21,9 +22,9 @@ TEXT = "unknowns x\nmoments 2\nstart 0 <= x\nsteps x' <= x + 2\nsensor a: x slac
 
 
 def show(house):
-    """All that a house shows."""
-    return ([(name, house.world_at(name), house.arrivals_at(name), house.readings_at(name)) for name in house.names],
-            [(label, house.note(label), house.status(label), house.gist_of(label)) for label in house.labels], house.log)
+    """All that a house shows, copied, so that it does not change with the house."""
+    return copy.deepcopy(([(name, house.world_at(name), house.arrivals_at(name), house.readings_at(name)) for name in house.names],
+            [(label, house.note(label), house.status(label), house.gist_of(label)) for label in house.labels], house.log))
 
 
 def housed(*commands):

@@ -1,5 +1,6 @@
 """Desks: what they hear, their letters, counts, and exchanges; desks that know the same tell the same."""
 
+import copy
 import unittest
 
 from allreadings.arrivals import merged, settled_arrivals, standing_readings
@@ -22,8 +23,8 @@ def pair(world=CART):
 def state_of(desk):
     """All that a desk shows."""
     fellows = desk.fellows
-    return (desk.called, desk.world, fellows, desk.roll, desk.readings, [desk.had_from(name) for name in fellows],
-            [desk.acked_by(name) for name in fellows])
+    return copy.deepcopy((desk.called, desk.world, fellows, desk.roll, desk.readings, [desk.had_from(name) for name in fellows],
+                          [desk.acked_by(name) for name in fellows]))
 
 
 def many_arrivals(count, first=0):
