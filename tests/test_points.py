@@ -67,6 +67,14 @@ class Points(unittest.TestCase):
             rising_points([[(1, 1)], [(1, 2)], [(-3, 1)], [(-1, BIG)], [(2, 5)], [(3, 5)], [(1, BIG)]]),
             [[(-3, 1)], [(-1, BIG)], [(1, BIG)], [(2, 5)], [(1, 2)], [(3, 5)], [(1, 1)]])
 
+    def test_rising_close_together(self):
+        """Fractions that differ only far behind the point, on both sides of nought."""
+        for big in [7, 1000, BIG, BIG ** 3]:
+            close = [(above, below) for below in (big, big + 1, big + 2) for above in (big - 1, big, big + 1, 1, -1, -big, 1 - big)]
+            points = [[fraction(above, below), (1, 3)] for above, below in close]
+            expected = sorted({(exact(a), exact(b)) for a, b in points})
+            self.assertEqual([(exact(a), exact(b)) for a, b in rising_points(points)], expected)
+
     def test_mixes(self):
         made = Made(3)
         for _ in range(60):
